@@ -73,39 +73,91 @@ func TestManyAskFirst(t *testing.T) {
 	}
 }
 
-// The lists are made by the first call, whichever it is, and by no other one.
+// The lists are made by the first call of All, of whichever kind, even if nobody ranges over its answer, and by no other one.
 func TestListsMadeOnce(t *testing.T) {
-	first := []func(){
-		func() { Name(Records, 20) },
-		func() { Name(-1, 20) },
-		func() { Code(Extensions, "cookie") },
-		func() { Code(3, "") },
-		func() {
-			for range All(Handshakes) {
-				break
-			}
-		},
-	}
-	for i, call := range first {
+	for _, kind := range []int{Records, Handshakes, Extensions, -1, 3} {
 		forget()
-		call()
+		All(kind)
 		made := [3]*named{}
-		for kind := range lists {
-			if len(lists[kind]) == 0 {
-				t.Fatalf("call %d made no list of kind %d", i, kind)
+		for kind, want := range worked() {
+			if !slices.Equal(lists[kind], want) {
+				t.Fatalf("All(%d) made of kind %d: %v", kind, kind, lists[kind])
 			}
 			made[kind] = &lists[kind][0]
 		}
 		for asker := range 8 {
 			if a := ask(asker); !rightAnswers(a) {
-				t.Errorf("behind call %d: %v", i, a)
+				t.Errorf("behind All(%d): %v", kind, a)
 			}
 		}
-		for kind := range lists {
-			if &lists[kind][0] != made[kind] {
-				t.Errorf("behind call %d the list of kind %d was made anew", i, kind)
+		for other := range lists {
+			if &lists[other][0] != made[other] {
+				t.Errorf("behind All(%d) the list of kind %d was made anew", kind, other)
 			}
 		}
+	}
+}
+
+// worked are the codes of all kinds, by the function that works them out.
+func worked() [][]named { return [][]named{records(), handshakes(), extensions()} }
+
+// rightOnItsOwn asks every call for every code, and tells what is answered otherwise than it is worked out.
+func rightOnItsOwn(t *testing.T, what string) {
+	t.Helper()
+	for kind, want := range worked() {
+		var all []named
+		for code, name := range All(kind) {
+			all = append(all, named{code, name})
+		}
+		if !slices.Equal(all, want) {
+			t.Errorf("%s: All(%d): %v", what, kind, all)
+		}
+		for _, c := range want {
+			if name, ok := Name(kind, c.code); name != c.name || !ok {
+				t.Errorf("%s: Name(%d, %d): %q, %t", what, kind, c.code, name, ok)
+			}
+			if code, ok := Code(kind, c.name); code != c.code || !ok {
+				t.Errorf("%s: Code(%d, %q): %d, %t", what, kind, c.name, code, ok)
+			}
+		}
+		if name, ok := Name(kind, 99); name != "" || ok {
+			t.Errorf("%s: Name(%d, 99): %q, %t", what, kind, name, ok)
+		}
+		if code, ok := Code(kind, "spoilt"); code != 0 || ok {
+			t.Errorf("%s: Code(%d, spoilt): %d, %t", what, kind, code, ok)
+		}
+	}
+	if !Grease(2570) || Grease(99) {
+		t.Errorf("%s: Grease(2570) or Grease(99)", what)
+	}
+}
+
+// Rule 7: no answer hangs on what is in the lists: it is the same ahead of the once, of lists that are empty, shorter, longer, or wrong.
+func TestNoAnswerHangsOnTheLists(t *testing.T) {
+	defer forget()
+	forget()
+	for kind, want := range worked() {
+		for _, c := range want {
+			if name, ok := Name(kind, c.code); name != c.name || !ok {
+				t.Errorf("ahead of the once: Name(%d, %d): %q, %t", kind, c.code, name, ok)
+			}
+			if code, ok := Code(kind, c.name); code != c.code || !ok {
+				t.Errorf("ahead of the once: Code(%d, %q): %d, %t", kind, c.name, code, ok)
+			}
+		}
+	}
+	wrong := []named{{99, "spoilt"}}
+	for what, kept := range map[string][3][]named{
+		"empty lists":   {},
+		"shorter lists": {records()[:1], handshakes()[1:], extensions()[:21]},
+		"longer lists":  {append(records(), wrong...), append(wrong, handshakes()...), append(extensions(), wrong...)},
+		"wrong lists":   {wrong, wrong, wrong},
+		"other kinds'":  {extensions(), records(), handshakes()},
+	} {
+		forget()
+		All(Records) // so the once is done, and doesn't mend them
+		lists = kept
+		rightOnItsOwn(t, what)
 	}
 }
 

@@ -1,6 +1,9 @@
 package codes
 
-import "sync"
+import (
+	"iter"
+	"sync"
+)
 
 // named is a code with its name.
 type named struct {
@@ -8,26 +11,41 @@ type named struct {
 	name string
 }
 
-// The lists stand by their kinds. They are written when they are asked for first, and never again, nor handed out.
+// The lists stand by their kinds. They are written when All is called first, and never again; no answer is taken from them.
 var (
 	once  sync.Once
 	lists [3][]named
 )
 
-// list are the codes of a kind, rising; of other kinds none.
-func list(kind int) []named {
-	once.Do(fill)
-	if kind < 0 || kind >= len(lists) {
-		return nil
-	}
-	return lists[kind]
-}
-
 // fill makes the lists.
 func fill() {
-	lists[Records] = records()
-	lists[Handshakes] = handshakes()
-	lists[Extensions] = extensions()
+	for kind := range lists {
+		lists[kind] = list(kind)
+	}
+}
+
+// each goes through the codes of a kind, rising.
+func each(kind int) iter.Seq2[int, string] {
+	return func(yield func(int, string) bool) {
+		for _, c := range list(kind) {
+			if !yield(c.code, c.name) {
+				return
+			}
+		}
+	}
+}
+
+// list are the codes of a kind, rising, made anew at each call; of other kinds none.
+func list(kind int) []named {
+	switch kind {
+	case Records:
+		return records()
+	case Handshakes:
+		return handshakes()
+	case Extensions:
+		return extensions()
+	}
+	return nil
 }
 
 func records() []named {
